@@ -1,27 +1,22 @@
 package grammar
 
-import "wordhoard/api"
+import (
+	"wordhoard/api"
+	"wordhoard/nest"
+)
 
 // Yield is the text of a tree.
 func Yield(g api.Grammar, t api.Tree) ([]int, api.Errno) {
 	if e := Check(g); e != api.OK {
 		return nil, e
 	}
-	if room(t, api.MaxNodes) < 0 {
+	if nest.Count(t, treesIn, api.MaxNodes) > api.MaxNodes {
 		return nil, api.ErrMany
 	}
 	return yield(g, t, nil)
 }
 
-// room is what is left of so many rules without those of a tree; below 0: it has
-// more, and is looked at no further, as it may go on without end.
-func room(t api.Tree, left int) int {
-	left--
-	for i := 0; i < len(t.Kids) && left >= 0; i++ {
-		left = room(t.Kids[i], left)
-	}
-	return left
-}
+func treesIn(t api.Tree) []api.Tree { return t.Kids }
 
 // yield puts the words of a tree behind others.
 func yield(g api.Grammar, t api.Tree, text []int) ([]int, api.Errno) {

@@ -1,6 +1,10 @@
 package nest
 
-import "testing"
+import (
+	"testing"
+
+	"wordhoard/api"
+)
 
 type thing struct{ kids []thing }
 
@@ -85,5 +89,77 @@ func TestCountOfOthers(t *testing.T) {
 	}
 	if n := Count("abcd", halves, 100); n != 7 {
 		t.Errorf("%d", n)
+	}
+}
+
+// node has a number beside its kids.
+type node struct {
+	e    api.Errno
+	kids []node
+}
+
+func nodesIn(n node) []node { return n.kids }
+
+func (d *draw) node(deep int) node {
+	var n node
+	if d.n(8) == 0 {
+		n.e = api.Errno(1 + d.n(5))
+	}
+	if deep > 0 {
+		for range d.n(4) {
+			n.kids = append(n.kids, d.node(deep-1))
+		}
+	}
+	return n
+}
+
+// slowErrors tells the errors of all nodes, each ahead of its kids.
+func slowErrors(n node) []api.Errno {
+	l := []api.Errno{n.e}
+	for _, kid := range n.kids {
+		l = append(l, slowErrors(kid)...)
+	}
+	return l
+}
+
+// What is wrong with the first one is told, and that there are too many ahead of that.
+func TestCheck(t *testing.T) {
+	d := draw(2)
+	seen := map[api.Errno]int{}
+	for range 20000 {
+		n := d.node(3)
+		most := 1 + d.n(30)
+		l := slowErrors(n)
+		want := api.OK
+		for _, e := range l {
+			if e != api.OK {
+				want = e
+				break
+			}
+		}
+		if len(l) > most {
+			want = api.ErrMany
+		}
+		if got := Check(n, nodesIn, most, func(n node) api.Errno { return n.e }); got != want {
+			t.Fatalf("%d of %v up to %d, not %d", got, n, most, want)
+		}
+		seen[want]++
+	}
+	for _, e := range []api.Errno{api.OK, 1, 2, 3, 4, 5, api.ErrMany} {
+		if seen[e] < 100 {
+			t.Errorf("only %d of %d", seen[e], e)
+		}
+	}
+}
+
+// No more is looked at once something is wrong, or if there are too many.
+func TestCheckStops(t *testing.T) {
+	bad := node{kids: []node{{}, {e: api.ErrForm}, {e: api.ErrKind}}}
+	for _, c := range []struct{ most, looked int }{{4, 3}, {3, 0}} {
+		looked := 0
+		Check(bad, nodesIn, c.most, func(n node) api.Errno { looked++; return n.e })
+		if looked != c.looked {
+			t.Errorf("up to %d: %d were looked at, not %d", c.most, looked, c.looked)
+		}
 	}
 }

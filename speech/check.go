@@ -17,8 +17,8 @@ func partsIn(p api.Part) []api.Part { return p.Kids }
 
 func proofsIn(p api.Proof) []api.Proof { return p.Kids }
 
-// checkEach tells what is wrong with a part, then with those in it; there are not too many.
-func checkEach(p api.Part) api.Errno {
+// wrongWith tells what is wrong with a part, but for those in it.
+func wrongWith(p api.Part) api.Errno {
 	kids, most := 2, 0
 	switch p.Kind {
 	case api.PartBase:
@@ -32,11 +32,6 @@ func checkEach(p api.Part) api.Errno {
 		return api.ErrForm
 	case p.N < 0, p.N > most:
 		return api.ErrRange
-	}
-	for _, kid := range p.Kids {
-		if e := checkEach(kid); e != api.OK {
-			return e
-		}
 	}
 	return api.OK
 }

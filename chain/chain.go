@@ -25,3 +25,13 @@ func Of(g api.Grammar) Leads {
 	}
 	return leads
 }
+
+// GoRound tells whether a kind leads back to itself.
+func (l Leads) GoRound() bool {
+	for kind, to := range l {
+		if to[kind] {
+			return true
+		}
+	}
+	return false
+}

@@ -1,6 +1,9 @@
 package chance
 
-import "wordhoard/api"
+import (
+	"wordhoard/api"
+	"wordhoard/span"
+)
 
 // pick is what is worth most: a rule, or where a part of a body ends.
 type pick struct {
@@ -44,7 +47,7 @@ func picksOf(o odds, text []int) *picks {
 		if there {
 			return most
 		}
-		first, last := s.ends(len(body))
+		first, last := span.Ends(s.from, s.to, len(body)-s.dot-1)
 		for end := first; end <= last; end++ {
 			if here := k.ofPart(body[s.dot], s.from, end); !here.isNone() {
 				rest := k.ofRest(some{rule: s.rule, dot: s.dot + 1, from: end, to: s.to})
@@ -70,7 +73,7 @@ func (k *picks) ofPart(part, from, to int) worth {
 	if part >= 0 {
 		return k.ofKind(piece{kind: part, from: from, to: to}).worth
 	}
-	return certainIf(isWord(k.text, part, from, to))
+	return certainIf(span.IsWord(k.text, part, from, to))
 }
 
 // tree that was picked.

@@ -14,7 +14,7 @@ func Check(c api.Chances) api.Errno {
 		return e
 	}
 	switch {
-	case goesRound(c.Grammar):
+	case chain.Of(c.Grammar).GoRound():
 		return api.ErrForm
 	case len(c.Weights) != len(c.Grammar.Rules):
 		return api.ErrMany
@@ -22,16 +22,6 @@ func Check(c api.Chances) api.Errno {
 		return api.ErrRange
 	}
 	return api.OK
-}
-
-// goesRound tells whether a kind leads back to itself.
-func goesRound(g api.Grammar) bool {
-	for kind, to := range chain.Of(g) {
-		if to[kind] {
-			return true
-		}
-	}
-	return false
 }
 
 func checkText(text []int) api.Errno {

@@ -32,9 +32,7 @@ func oddsOf(g api.Grammar, p []numbers.Fraction) odds {
 		o.wholes[kind] = numbers.Of(1)
 	}
 	for i, r := range o.rules {
-		common := numbers.Common(o.wholes[r.Head], p[i].Bottom)
-		more, _ := p[i].Bottom.Over(common)
-		o.wholes[r.Head] = o.wholes[r.Head].Times(more)
+		o.wholes[r.Head] = numbers.Least(o.wholes[r.Head], p[i].Bottom)
 	}
 	for i, r := range o.rules {
 		times, _ := o.wholes[r.Head].Over(p[i].Bottom)

@@ -1,5 +1,7 @@
 package chance
 
+import "wordhoard/span"
+
 // piece of a text, and a kind that spans it.
 type piece struct{ kind, from, to int }
 
@@ -54,7 +56,7 @@ func (t *trees) lookDown() {
 		if there {
 			return sum
 		}
-		first, last := s.ends(len(body))
+		first, last := span.Ends(s.from, s.to, len(body)-s.dot-1)
 		for end := first; end <= last; end++ {
 			if here := t.ofPart(body[s.dot], s.from, end); !here.isNone() {
 				rest := t.ofRest(some{rule: s.rule, dot: s.dot + 1, from: end, to: s.to})
@@ -66,26 +68,13 @@ func (t *trees) lookDown() {
 	}
 }
 
-// ends tells where the part behind the dot may end, if it and those behind it
-// span the piece: each has a word at least, and the last one ends with it.
-func (s some) ends(parts int) (int, int) {
-	behind := parts - s.dot - 1
-	if behind == 0 {
-		return max(s.from+1, s.to), s.to
-	}
-	return s.from + 1, s.to - behind
-}
-
 // ofPart of a body.
 func (t *trees) ofPart(part, from, to int) worth {
 	if part >= 0 {
 		return t.ofKind(piece{kind: part, from: from, to: to})
 	}
-	return certainIf(isWord(t.text, part, from, to))
+	return certainIf(span.IsWord(t.text, part, from, to))
 }
-
-// isWord tells whether a piece of a text is just that word.
-func isWord(text []int, part, from, to int) bool { return to == from+1 && text[from] == -part }
 
 // lookUp makes the functions that tell what stands around a piece.
 func (t *trees) lookUp() {

@@ -3,6 +3,7 @@ package grammar
 import (
 	"wordhoard/chain"
 	"wordhoard/numbers"
+	"wordhoard/span"
 )
 
 // tally of trees.
@@ -69,7 +70,7 @@ func (c *chart) trees() tally {
 		if there {
 			return sum
 		}
-		first, last := b.ends(len(body))
+		first, last := span.Ends(b.from, b.to, len(body)-b.dot-1)
 		for end := first; end <= last; end++ {
 			here := c.ofWord(body[b.dot], b.from, end)
 			if body[b.dot] >= 0 {
@@ -85,19 +86,9 @@ func (c *chart) trees() tally {
 	return ofKind(c.whole())
 }
 
-// ends tells where the part behind the dot may end, if it and those behind it
-// span the piece: each has a word at least, and the last one ends with it.
-func (b begun) ends(parts int) (int, int) {
-	behind := parts - b.dot - 1
-	if behind == 0 {
-		return max(b.from+1, b.to), b.to
-	}
-	return b.from + 1, b.to - behind
-}
-
 // ofWord is one, if the piece is just that word.
 func (c *chart) ofWord(part, from, to int) tally {
-	if to == from+1 && c.text[from] == -part {
+	if span.IsWord(c.text, part, from, to) {
 		return tally{n: numbers.Of(1)}
 	}
 	return tally{}

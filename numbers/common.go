@@ -30,6 +30,12 @@ func Common(a, b Whole) Whole {
 	return Whole{x}
 }
 
+// Least is the least number above 0 into which both, which are above 0, go.
+func Least(a, b Whole) Whole {
+	times, _ := b.Over(Common(a, b))
+	return a.Times(times)
+}
+
 // steps tells what many steps of EUCLID make of a and b (LEHMER): a becomes
 // a1 times a and b1 times b, one taken from the other, and b likewise by a2 and b2.
 type steps struct {

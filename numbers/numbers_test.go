@@ -130,7 +130,11 @@ func TestCommonIsTheLibrarys(t *testing.T) {
 			a, b = a.Times(c), b.Times(c)
 		}
 		x, y := bigOf(a), bigOf(b)
-		same(t, "Common", Common(a, b), new(big.Int).GCD(nil, nil, x, y))
+		common := new(big.Int).GCD(nil, nil, x, y)
+		same(t, "Common", Common(a, b), common)
+		if !a.IsZero() && !b.IsZero() {
+			same(t, "Least", Least(a, b), new(big.Int).Div(new(big.Int).Mul(x, y), common))
+		}
 		same(t, "a stays", a, x)
 		same(t, "b stays", b, y)
 	}
